@@ -1,0 +1,277 @@
+"""The form of the package: the rules of LANGUAGE.md that a test can see, and the names of the interface."""
+
+import ast
+import builtins
+import importlib
+import inspect
+import pathlib
+import unittest
+
+ROOT = pathlib.Path(__file__).resolve().parent.parent
+PACKAGE = ROOT / "drowsefolk"
+
+INTERFACE = {
+    "names": {"is_name": "(text)", "is_number": "(value, low, high)"},
+    "webs": {
+        "Web": "(folk, watches=())", "with_need": "(web, name, need)",
+        "with_watch": "(web, watcher, watched, weight)", "with_folk": "(web, name, need)",
+        "without_folk": "(web, name)", "sub_web": "(web, names)", "world_of": "(web, awake)",
+        "sleepers": "(web, awake)", "differing": "(web, awake, target)", "world_key": "(web, awake)",
+        "all_worlds": "(web)",
+    },
+    "texts": {
+        "web_text": "(web)", "read_web": "(text)", "world_text": "(web, awake)", "read_world": "(web, text)",
+    },
+}
+METHODS = {
+    ("webs", "Web"): [
+        "names", "folk", "watches", "need", "weight", "watchers", "watched_by", "__init__", "__eq__", "__contains__",
+        "__iter__",
+    ],
+}
+
+BUILTINS = (
+    "len range enumerate zip min max sum abs sorted reversed int str bool list tuple dict isinstance ord repr any all "
+    "divmod iter ValueError"
+).split()
+DECORATORS = ("property", "staticmethod", "classmethod")
+VALUE_METHODS = (
+    "append clear copy count endswith extend find get index insert isalnum isalpha isdigit islower isspace isupper "
+    "items join keys ljust lower lstrip partition pop remove replace reverse rfind rjust rpartition rsplit rstrip "
+    "setdefault split splitlines startswith strip update upper values zfill bit_length"
+).split()
+BARRED = ("register", "mro", "elements", "open", "input", "law", "version_info", "with_traceback", "add_note")
+BARRED_WORDS = ("type", "typing", "enum", "Enum", "Flag", "Generic", "Protocol", "ABC", "namedtuple", "NamedTuple")
+STATEMENTS = (
+    ast.Assign, ast.AugAssign, ast.If, ast.While, ast.For, ast.Return, ast.Break, ast.Continue, ast.Pass, ast.Raise,
+    ast.Expr, ast.FunctionDef, ast.ClassDef, ast.ImportFrom,
+)
+
+
+def files():
+    """The files of the package."""
+    return sorted(PACKAGE.rglob("*.py"))
+
+
+def tree_of(path):
+    """The syntax tree of a file."""
+    return ast.parse(path.read_text(encoding="utf-8"))
+
+
+def walk_all(kind):
+    """Each part of this kind in the package, with the name of its file."""
+    return [(path.name, node) for path in files() for node in ast.walk(tree_of(path)) if isinstance(node, kind)]
+
+
+def bound_names(tree):
+    """The names that are bound at module level."""
+    found = []
+    for node in tree.body:
+        if isinstance(node, ast.ImportFrom):
+            found.extend([alias.asname or alias.name for alias in node.names])
+        elif isinstance(node, (ast.FunctionDef, ast.ClassDef)):
+            found.append(node.name)
+        elif isinstance(node, ast.Assign):
+            found.extend([target.id for target in node.targets])
+    return found
+
+
+def docstrings(tree):
+    """The texts that stand as docstrings."""
+    found = []
+    for node in ast.walk(tree):
+        if isinstance(node, (ast.Module, ast.ClassDef, ast.FunctionDef)) and ast.get_docstring(node) is not None:
+            found.append(node.body[0].value)
+    return found
+
+
+class Files(unittest.TestCase):
+    def test_nothing_but_python_files(self):
+        for path in PACKAGE.rglob("*"):
+            if "__pycache__" in path.parts:
+                continue
+            self.assertTrue(path.suffix == ".py" and path.stem == path.stem.lower(), path)
+        self.assertTrue((PACKAGE / "__init__.py").exists())
+
+    def test_signs_and_sizes(self):
+        for path in files():
+            text = path.read_text(encoding="utf-8")
+            lines = text.split("\n")
+            self.assertTrue(all(sign == "\n" or " " <= sign <= "~" for sign in text), path)
+            self.assertLessEqual(len(lines) - 1, 399, path)
+            self.assertLessEqual(max(len(line) for line in lines), 120, path)
+
+    def test_functions_have_at_most_forty_lines(self):
+        for name, node in walk_all(ast.FunctionDef):
+            self.assertLessEqual(node.end_lineno - node.lineno + 1, 40, (name, node.name))
+
+    def test_all_has_a_docstring(self):
+        for name, node in walk_all((ast.Module, ast.ClassDef)):
+            self.assertTrue(ast.get_docstring(node), name)
+        for name, node in walk_all(ast.FunctionDef):
+            if not node.name.startswith("__"):
+                self.assertTrue(ast.get_docstring(node), (name, node.name))
+
+
+class Imports(unittest.TestCase):
+    def test_from_the_file_that_defines_the_name(self):
+        for path in files():
+            for node in ast.walk(tree_of(path)):
+                self.assertNotIsInstance(node, ast.Import, path)
+                if isinstance(node, ast.ImportFrom):
+                    self.assertEqual((node.level, node.module.split(".")[0]), (0, "drowsefolk"), path)
+                    source = tree_of(PACKAGE / (node.module.split(".")[1] + ".py"))
+                    own = [name for part in source.body if not isinstance(part, ast.ImportFrom)
+                           for name in bound_names(ast.Module([part], []))]
+                    for alias in node.names:
+                        self.assertIn(alias.name, own, path)
+                        self.assertIsNone(alias.asname, path)
+
+    def test_no_circles(self):
+        needs = {
+            path.stem: [node.module.split(".")[1] for node in tree_of(path).body if isinstance(node, ast.ImportFrom)]
+            for path in files()
+        }
+        done = []
+        while len(done) < len(needs):
+            ready = [name for name in needs if name not in done and all(one in done for one in needs[name])]
+            self.assertTrue(ready, "files import from each other in a circle")
+            done.extend(ready)
+
+    def test_all_imports_are_used(self):
+        for path in files():
+            tree = tree_of(path)
+            used = {node.id for node in ast.walk(tree) if isinstance(node, ast.Name)}
+            for node in tree.body:
+                if isinstance(node, ast.ImportFrom):
+                    self.assertLessEqual({alias.name for alias in node.names}, used, path)
+
+
+class Code(unittest.TestCase):
+    def test_module_level(self):
+        for path in files():
+            tree = tree_of(path)
+            names = bound_names(tree)
+            self.assertEqual(len(names), len(set(names)), path)
+            for node in tree.body:
+                if isinstance(node, ast.Assign):
+                    ast.literal_eval(node.value)
+                elif isinstance(node, ast.Expr):
+                    self.assertIsInstance(node.value, ast.Constant, path)
+                else:
+                    self.assertIsInstance(node, (ast.ImportFrom, ast.FunctionDef, ast.ClassDef), path)
+
+    def test_statements(self):
+        for name, node in walk_all(ast.stmt):
+            self.assertIsInstance(node, STATEMENTS, (name, node.lineno))
+
+    def test_expressions(self):
+        # Not all of these are barred by the rules, but the package does without them.
+        left_out = (ast.Set, ast.SetComp, ast.GeneratorExp, ast.Div, ast.MatMult, ast.Await, ast.NamedExpr, ast.Pow)
+        self.assertEqual(walk_all(left_out), [])
+
+    def test_strings_and_numbers(self):
+        for path in files():
+            tree = tree_of(path)
+            texts = [node.value for node in docstrings(tree)]
+            for node in ast.walk(tree):
+                if not isinstance(node, ast.Constant):
+                    continue
+                self.assertNotIsInstance(node.value, (float, complex, bytes), path)
+                if isinstance(node.value, str):
+                    self.assertNotIn("%", node.value, path)
+                    self.assertFalse(node.value.endswith(("._", ".__")), path)
+                    self.assertFalse(node.value.startswith("__"), path)
+                    if node.value not in texts:
+                        self.assertFalse(set(node.value.split()) & set(BARRED_WORDS), path)
+
+    def test_decorators(self):
+        for name, node in walk_all((ast.FunctionDef, ast.ClassDef)):
+            for decorator in node.decorator_list:
+                self.assertIsInstance(decorator, ast.Name, name)
+                self.assertIn(decorator.id, DECORATORS, name)
+
+    def test_is_only_with_none_and_bools(self):
+        for name, node in walk_all(ast.Compare):
+            for operator, right in zip(node.ops, node.comparators):
+                if isinstance(operator, (ast.Is, ast.IsNot)):
+                    self.assertIsInstance(right, ast.Constant, (name, node.lineno))
+
+    def test_builtins(self):
+        all_builtins = vars(builtins)
+        for path in files():
+            for node in ast.walk(tree_of(path)):
+                if isinstance(node, ast.Name) and node.id in all_builtins:
+                    self.assertIsInstance(node.ctx, ast.Load, (path, node.lineno))
+                    self.assertIn(node.id, BUILTINS + list(DECORATORS), (path, node.lineno))
+                if isinstance(node, ast.arg):
+                    self.assertNotIn(node.arg, all_builtins, (path, node.lineno))
+                if isinstance(node, (ast.FunctionDef, ast.ClassDef)):
+                    self.assertNotIn(node.name, all_builtins, (path, node.lineno))
+
+    def test_plain_names(self):
+        for path in files():
+            for node in ast.walk(tree_of(path)):
+                for name in (getattr(node, "id", None), getattr(node, "arg", None), getattr(node, "attr", None),
+                             getattr(node, "name", None)):
+                    if isinstance(name, str):
+                        self.assertNotIn(name, BARRED, path)
+                        self.assertNotEqual(name, "_", path)
+                        if name.startswith("__"):
+                            self.assertIsInstance(node, ast.FunctionDef, path)
+
+    def test_no_local_has_the_name_of_an_import_or_class(self):
+        for path in files():
+            tree = tree_of(path)
+            taken = [name for part in tree.body if isinstance(part, (ast.ImportFrom, ast.ClassDef))
+                     for name in bound_names(ast.Module([part], []))]
+            for node in ast.walk(tree):
+                if isinstance(node, ast.Name) and isinstance(node.ctx, ast.Store):
+                    self.assertNotIn(node.id, taken, (path, node.lineno))
+                if isinstance(node, ast.arg):
+                    self.assertNotIn(node.arg, taken, (path, node.lineno))
+
+    def test_methods_called(self):
+        own = {node.name for _, node in walk_all(ast.FunctionDef)}
+        for name, node in walk_all(ast.Call):
+            if isinstance(node.func, ast.Attribute):
+                self.assertIn(node.func.attr, list(own) + VALUE_METHODS, (name, node.lineno))
+
+    def test_any_and_all_and_the_like_take_lists(self):
+        for name, node in walk_all(ast.Call):
+            if isinstance(node.func, ast.Name) and node.func.id in ("any", "all", "sum", "sorted"):
+                self.assertNotIsInstance(node.args[0], (ast.GeneratorExp, ast.Set), (name, node.lineno))
+
+    def test_the_generator_has_a_name_of_its_own(self):
+        named = [node.name for _, node in walk_all(ast.FunctionDef)]
+        for name, node in walk_all(ast.FunctionDef):
+            if any(isinstance(part, (ast.Yield, ast.YieldFrom)) for part in ast.walk(node)):
+                self.assertEqual(named.count(node.name), 1, name)
+
+
+class TheInterface(unittest.TestCase):
+    def test_functions_and_classes(self):
+        for file_name, rows in INTERFACE.items():
+            module = importlib.import_module("drowsefolk." + file_name)
+            for name, signature in rows.items():
+                value = getattr(module, name)
+                self.assertEqual(value.__module__, "drowsefolk." + file_name, name)
+                self.assertEqual(str(inspect.signature(value)), signature, name)
+
+    def test_methods_stand_in_the_class_itself(self):
+        for (file_name, class_name), methods in METHODS.items():
+            value = getattr(importlib.import_module("drowsefolk." + file_name), class_name)
+            for name in methods:
+                self.assertIn(name, vars(value), (class_name, name))
+
+    def test_objects_are_not_hashed(self):
+        for file_name, class_name in METHODS:
+            value = getattr(importlib.import_module("drowsefolk." + file_name), class_name)
+            self.assertIsNone(value.__hash__, class_name)
+
+
+class TheReadme(unittest.TestCase):
+    def test_it_tells_how_to_run_the_tests(self):
+        text = (ROOT / "README.md").read_text(encoding="utf-8")
+        self.assertIn("python3 -m unittest discover -s tests -t .", text)
+        self.assertIn(".ci/run", text)
