@@ -22,11 +22,33 @@ INTERFACE = {
     "texts": {
         "web_text": "(web)", "read_web": "(text)", "world_text": "(web, awake)", "read_world": "(web, text)",
     },
+    "renaming": {
+        "Renaming": "(pairs)", "renamed": "(web, renaming)", "renamed_world": "(web, awake, renaming)",
+    },
+    "deeds": {
+        "weight_on": "(web, awake, name)", "missing": "(web, awake, name)", "may_turn": "(web, awake, name)",
+        "turners": "(web, awake)", "turn": "(web, awake, name)", "replay": "(web, awake, deeds)",
+        "walk": "(web, awake, deeds)",
+    },
+    "histories": {
+        "History": "(web, awake, deeds)", "reduced": "(history)", "shortened": "(history)",
+        "is_history": "(web, awake, target, paper)",
+    },
+    "closing": {
+        "closure": "(web, awake, *, within=None)", "waking_order": "(web, awake, *, within=None)",
+        "waking_rounds": "(web, awake, *, within=None)",
+        "is_waking_order": "(web, awake, target, paper, *, within=None)",
+    },
 }
 METHODS = {
     ("webs", "Web"): [
         "names", "folk", "watches", "need", "weight", "watchers", "watched_by", "__init__", "__eq__", "__contains__",
         "__iter__",
+    ],
+    ("renaming", "Renaming"): ["pairs", "same", "__init__", "__call__", "__mul__", "__neg__", "__eq__"],
+    ("histories", "History"): [
+        "web", "first_world", "last_world", "deeds", "worlds", "at", "turned", "cut", "__init__", "__add__",
+        "__neg__", "__len__", "__eq__",
     ],
 }
 
