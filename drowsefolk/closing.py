@@ -1,28 +1,21 @@
 """Closures, and the orders of waking that lead to them [21] [22]."""
 
-from drowsefolk.checks import everybody, mask_of, place_in, positions, told, without
+from drowsefolk.checks import everybody, first_place, mask_of, mask_or_all, place_in, positions, tell, without
 from drowsefolk.deeds import missing_at
 from drowsefolk.errors import Outside
-
-
-def within_mask(web, within):
-    """The mask of those who may wake; None means all folk."""
-    if within is None:
-        return everybody(web)
-    return mask_of(web, within)
 
 
 def check_inside(web, world, allowed):
     """Refuses a world in which somebody is awake who is not among the allowed."""
     left = without(world, allowed)
     if left > 0:
-        raise Outside(told(web, left)[0])
+        raise Outside(web.names[first_place(left)])
 
 
 def _examined(web, awake, within):
     """The masks of the world and of those who may wake, each one examined."""
     world = mask_of(web, awake)
-    allowed = within_mask(web, within)
+    allowed = mask_or_all(web, within)
     check_inside(web, world, allowed)
     return (world, allowed)
 
@@ -68,10 +61,15 @@ def closed(web, world, allowed):
     return world
 
 
+def closed_in_all(web, world):
+    """The mask of the closure in the whole web; all worlds of a class have the same one [25]."""
+    return closed(web, world, everybody(web))
+
+
 def closure(web, awake, *, within=None):
     """The closure of the world, within a set if one is told."""
     world, allowed = _examined(web, awake, within)
-    return told(web, closed(web, world, allowed))
+    return tell(web, closed(web, world, allowed))
 
 
 def waking_order(web, awake, *, within=None):
@@ -102,6 +100,6 @@ def is_waking_order(web, awake, target, paper, *, within=None):
     """True if the names of the paper can wake one after the other, and lead to the target."""
     world = mask_of(web, awake)
     goal = mask_of(web, target)
-    allowed = within_mask(web, within)
+    allowed = mask_or_all(web, within)
     check_inside(web, world, allowed)
     return world_woken(web, world, paper, allowed) == goal

@@ -1,6 +1,6 @@
 """Who may turn in a world, and what rows of deeds lead to [17] [18]."""
 
-from drowsefolk.checks import check_count, mask_of, place_in, told
+from drowsefolk.checks import check_count, mask_of, place_in, tell
 from drowsefolk.errors import TooLight
 from drowsefolk.names import MOST_DEEDS
 
@@ -39,7 +39,9 @@ def world_row(web, world, places):
 
 
 def world_behind(web, world, names):
-    """The mask behind the deeds of a paper, or None if one is unknown or not allowed."""
+    """The mask behind the deeds of a paper, or None if they are too many or one is unknown or not allowed."""
+    if len(names) > MOST_DEEDS:
+        return None
     for name in names:
         if name not in web:
             return None
@@ -77,20 +79,20 @@ def turners(web, awake):
 def turn(web, awake, name):
     """The world behind the deed of the named one."""
     world = mask_of(web, awake)
-    return told(web, turned_at(web, world, place_in(web.names, name), 1))
+    return tell(web, turned_at(web, world, place_in(web.names, name), 1))
 
 
 def replay(web, awake, deeds):
     """The world behind all deeds."""
     world = mask_of(web, awake)
-    return told(web, world_row(web, world, deed_places(web, deeds))[-1])
+    return tell(web, world_row(web, world, deed_places(web, deeds))[-1])
 
 
 def walk(web, awake, deeds):
     """Gives the world of the awake and then the world behind each deed, one by one."""
     world = mask_of(web, awake)
     places = deed_places(web, deeds)
-    yield told(web, world)
+    yield tell(web, world)
     for at, place in enumerate(places, start=1):
         world = turned_at(web, world, place, at)
-        yield told(web, world)
+        yield tell(web, world)

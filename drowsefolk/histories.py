@@ -1,6 +1,6 @@
 """Histories: rows of deeds that are allowed one after the other [19] [20]."""
 
-from drowsefolk.checks import check_count, check_number, mask_of, place_in, told
+from drowsefolk.checks import check_count, check_number, mask_of, place_in, tell
 from drowsefolk.deeds import deed_places, world_behind, world_row
 from drowsefolk.errors import NotJoined, OtherWeb
 from drowsefolk.names import MOST_DEEDS
@@ -24,12 +24,12 @@ class History:
     @property
     def first_world(self):
         """The world before all deeds."""
-        return told(self._web, self._masks[0])
+        return tell(self._web, self._masks[0])
 
     @property
     def last_world(self):
         """The world behind all deeds."""
-        return told(self._web, self._masks[-1])
+        return tell(self._web, self._masks[-1])
 
     @property
     def deeds(self):
@@ -38,12 +38,12 @@ class History:
 
     def worlds(self):
         """All worlds in order, one more than the deeds."""
-        return [told(self._web, mask) for mask in self._masks]
+        return [tell(self._web, mask) for mask in self._masks]
 
     def at(self, place):
         """The world behind so many deeds."""
         check_number(place, 0, len(self._deeds))
-        return told(self._web, self._masks[place])
+        return tell(self._web, self._masks[place])
 
     def turned(self, name):
         """How often the named one turns."""
@@ -54,7 +54,7 @@ class History:
         """The history of the deeds from number low up to but not including number high."""
         check_number(low, 0, len(self._deeds))
         check_number(high, low, len(self._deeds))
-        return History(self._web, told(self._web, self._masks[low]), self._deeds[low:high])
+        return History(self._web, tell(self._web, self._masks[low]), self._deeds[low:high])
 
     def __add__(self, other):
         if self._web != other.web:
@@ -107,4 +107,4 @@ def is_history(web, awake, target, paper):
     """True if the paper is the deeds of a history from the first world to the second."""
     first = mask_of(web, awake)
     last = mask_of(web, target)
-    return len(paper) <= MOST_DEEDS and world_behind(web, first, paper) == last
+    return world_behind(web, first, paper) == last

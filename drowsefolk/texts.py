@@ -1,6 +1,6 @@
 """The texts of webs [13] [14] and of worlds [15]."""
 
-from drowsefolk.checks import mask_of, told
+from drowsefolk.checks import mask_of, tell
 from drowsefolk.errors import BadText
 from drowsefolk.names import MOST_FOLK, MOST_WATCHES, is_name
 from drowsefolk.webs import Web
@@ -62,7 +62,7 @@ def read_web(text):
 
 def world_text(web, awake):
     """The names of the awake in folk order, or the sign for nobody."""
-    return " ".join(told(web, mask_of(web, awake))) or _NOBODY
+    return " ".join(tell(web, mask_of(web, awake))) or _NOBODY
 
 
 def read_world(web, text):
@@ -73,4 +73,4 @@ def read_world(web, text):
     for at, name in enumerate(names):
         if name not in web or name in names[:at]:
             raise BadText(1)
-    return told(web, mask_of(web, names))
+    return tell(web, mask_of(web, names))

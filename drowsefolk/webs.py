@@ -1,9 +1,10 @@
 """Webs [10], their worlds [11], and changed webs [12]."""
 
 from drowsefolk.checks import (
-    check_count, check_new_name, check_number, everybody, mask_of, place_in, told, without, world_order_key,
+    check_count, check_new_name, check_number, check_size, everybody, mask_of, place_in, subsets, tell, tell_all,
+    without, world_order_key,
 )
-from drowsefolk.errors import Repeated, SelfWatch, TooLarge
+from drowsefolk.errors import Repeated, SelfWatch
 from drowsefolk.names import MOST_FOLK, MOST_NUMBER, MOST_WATCHES, SUBSET_LIMIT
 
 
@@ -137,7 +138,7 @@ def with_folk(web, name, need):
 
 def _kept_web(web, mask):
     """The web of these members and the watches among them; Web itself refuses a web of nobody."""
-    kept = told(web, mask)
+    kept = tell(web, mask)
     folk = [row for row in web.folk if row[0] in kept]
     return Web(folk, [row for row in web.watches if row[0] in kept and row[1] in kept])
 
@@ -155,17 +156,17 @@ def sub_web(web, names):
 
 def world_of(web, awake):
     """The world of these names."""
-    return told(web, mask_of(web, awake))
+    return tell(web, mask_of(web, awake))
 
 
 def sleepers(web, awake):
     """All who are not awake, in folk order."""
-    return told(web, without(everybody(web), mask_of(web, awake)))
+    return tell(web, without(everybody(web), mask_of(web, awake)))
 
 
 def differing(web, awake, target):
     """Those who are in exactly one of the two worlds, in folk order."""
-    return told(web, mask_of(web, awake) ^ mask_of(web, target))
+    return tell(web, mask_of(web, awake) ^ mask_of(web, target))
 
 
 def world_key(web, awake):
@@ -175,7 +176,5 @@ def world_key(web, awake):
 
 def all_worlds(web):
     """All worlds of the web in world order."""
-    if len(web.names) > SUBSET_LIMIT:
-        raise TooLarge("folk", SUBSET_LIMIT)
-    masks = sorted(list(range(1 << len(web.names))), key=world_order_key)
-    return [told(web, mask) for mask in masks]
+    check_size("folk", len(web.names), SUBSET_LIMIT)
+    return tell_all(web, subsets(everybody(web)))

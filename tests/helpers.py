@@ -36,6 +36,29 @@ def full_web(watches=24):
     return Web([(name, 2) for name in names], pairs[:watches])
 
 
+# Groups of folk by the number of members in the class of the world in which only the first of them is awake:
+# the needs, and the watches as (watcher, watched).
+GROUPS = {
+    2: ([0], []),
+    3: ([1, 1], [(0, 1), (1, 0)]),
+    5: ([2, 1, 1], [(0, 1), (0, 2), (1, 0), (2, 0)]),
+    7: ([1, 1, 1], [(0, 1), (0, 2), (1, 0), (1, 2), (2, 0), (2, 1)]),
+}
+
+
+def grouped_web(sizes):
+    """A web of groups that do not watch each other, and its world whose class has the product of the sizes."""
+    folk, watches, awake = [], [], []
+    names = iter(names_for(12))
+    for size in sizes:
+        needs, pairs = GROUPS[size]
+        group = [next(names) for _ in needs]
+        folk.extend(zip(group, needs))
+        watches.extend([(group[one], group[other], 1) for one, other in pairs])
+        awake.append(group[0])
+    return Web(folk, watches), tuple(awake)
+
+
 def small_webs():
     """Some webs of one to four folk, made by a rule without chance."""
     webs = [Web([("a", 0)]), Web([("a", 1)]), example_web()]

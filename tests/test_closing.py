@@ -7,6 +7,7 @@ from drowsefolk.deeds import may_turn
 from drowsefolk.errors import Outside, Repeated, UnknownFolk
 from drowsefolk.webs import Web
 from tests.helpers import Case, Text, example_web, plain_web, small_webs, subsets
+from tests.slow import in_folk_order
 
 
 def can_wake(web, world, name, within):
@@ -21,11 +22,6 @@ def all_waking_orders(web, awake, within):
         world = tuple(awake) + row
         rows.extend([row + (name,) for name in web.names if can_wake(web, world, name, within)])
     return rows
-
-
-def in_folk_order(web, names):
-    """The names as a world is told."""
-    return tuple(name for name in web.names if name in names)
 
 
 class Closure(Case):

@@ -39,6 +39,59 @@ INTERFACE = {
         "waking_rounds": "(web, awake, *, within=None)",
         "is_waking_order": "(web, awake, target, paper, *, within=None)",
     },
+    "nests": {
+        "outside_weight": "(web, names, name)", "is_nest": "(web, paper)", "is_nest_of": "(web, awake, paper)",
+        "greatest_nest": "(web, awake)", "avoids": "(web, awake, names)", "nest_union": "(web, one, other)",
+        "all_nests": "(web)", "prime_nests": "(web)", "closure_paper": "(web, awake)",
+        "is_closure_paper": "(web, awake, target, paper)",
+    },
+    "reach": {
+        "same_class": "(web, awake, target)", "path": "(web, awake, target)", "parting_nest": "(web, awake, target)",
+        "is_parting_nest": "(web, awake, target, paper)", "answer": "(web, awake, target)",
+        "is_answer": "(web, awake, target, paper)", "guarded_class": "(web, awake, target, names)",
+        "guarded_path": "(web, awake, target, names)", "is_guard_nest": "(web, names, paper)",
+        "guard_answer": "(web, awake, target, names)",
+        "is_guard_answer": "(web, awake, target, names, paper)", "needed": "(web, awake, target)",
+        "must_turn": "(web, awake, target)",
+    },
+    "fewest": {
+        "helpers": "(web, awake, target)", "least_helpers": "(web, awake, target)", "fewest": "(web, awake, target)",
+        "fewest_history": "(web, awake, target)", "is_helpers": "(web, awake, target, paper)",
+        "distance_table": "(web, awake)", "is_bound_table": "(web, awake, target, paper, bound)",
+    },
+    "lengths": {
+        "can_last": "(web, awake, target, length)", "history_of_length": "(web, awake, target, length)",
+        "count_fewest": "(web, awake, target)", "fewest_histories": "(web, awake, target, *, most=20)",
+        "count_lasting": "(web, awake, target, length)", "farthest": "(web, awake)", "diameter": "(web, awake)",
+    },
+    "pictures": {
+        "fits": "(web, awake, told_awake, told_asleep)", "greatest_fit": "(web, awake, told_awake, told_asleep)",
+        "fit_paper": "(web, awake, told_awake, told_asleep)",
+        "is_fit_paper": "(web, awake, told_awake, told_asleep, paper)",
+        "sure": "(web, awake, told_awake, told_asleep)", "list_fits": "(web, awake, told_awake, told_asleep)",
+        "count_fits": "(web, awake, told_awake, told_asleep)", "least_fits": "(web, awake, told_awake, told_asleep)",
+    },
+    "classes": {
+        "members": "(web, awake)", "class_size": "(web, awake)", "rank": "(web, awake)",
+        "member_at": "(web, awake, place)", "least_member": "(web, awake)", "thin_members": "(web, awake)",
+        "classes": "(web)", "class_table": "(web)", "class_place": "(web, awake)",
+        "class_join": "(web, awake, target)", "class_meet": "(web, awake, target)", "is_thin": "(web, awake)",
+        "thinned": "(web, awake)", "thin_paper": "(web, awake)", "is_thin_paper": "(web, awake, paper)",
+        "least_wakers": "(web, *, target=None)",
+    },
+    "sameness": {
+        "find_renaming": "(one, other)", "is_renaming": "(one, other, paper)", "canonical_web": "(web)",
+        "canonical_renaming": "(web)", "count_selfs": "(web)", "first_difference": "(one, other)",
+    },
+    "lightest": {
+        "keepers": "(web, name)", "same_deeds": "(one, other)", "deed_difference": "(one, other)",
+        "same_classes": "(one, other)", "class_difference": "(one, other)", "is_finer": "(one, other)",
+        "lightest": "(web)",
+    },
+    "pieces": {
+        "Piece": "(web, border, *, awake=())", "settle": "(piece, told)", "table": "(piece)",
+        "struck": "(piece, name)", "smaller": "(piece)",
+    },
 }
 METHODS = {
     ("webs", "Web"): [
@@ -50,6 +103,7 @@ METHODS = {
         "web", "first_world", "last_world", "deeds", "worlds", "at", "turned", "cut", "__init__", "__add__",
         "__neg__", "__len__", "__eq__",
     ],
+    ("pieces", "Piece"): ["web", "border", "inner", "awake", "__init__", "__eq__"],
 }
 
 BUILTINS = (
@@ -238,7 +292,8 @@ class Code(unittest.TestCase):
                              getattr(node, "name", None)):
                     if isinstance(name, str):
                         self.assertNotIn(name, BARRED, path)
-                        self.assertNotEqual(name, "_", path)
+                        if name == "_":
+                            self.assertIsInstance(node.ctx, ast.Store, path)
                         if name.startswith("__"):
                             self.assertIsInstance(node, ast.FunctionDef, path)
 
