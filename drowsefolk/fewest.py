@@ -40,19 +40,27 @@ def worlds_next(web, world):
     return [world ^ (1 << place) for place in range(len(web.names)) if missing_at(web, world, place) == 0]
 
 
+def _worlds_beyond(web, found, edge):
+    """The masks of the worlds behind one deed from those of the edge that are not found yet, each once."""
+    fresh = {}
+    for one in edge:
+        for other in worlds_next(web, one):
+            if other not in found:
+                fresh[other] = True
+    return list(fresh)
+
+
 def distances(web, world, limit):
     """The fewest deeds from the world to each of its class, near ones first; refuses a class above the limit."""
     found = {world: 0}
     edge = [world]
+    number = 0
     while len(edge) > 0:
-        fresh = []
-        for one in edge:
-            for other in worlds_next(web, one):
-                if other not in found:
-                    found[other] = found[one] + 1
-                    fresh.append(other)
+        number = number + 1
+        edge = _worlds_beyond(web, found, edge)
+        for other in edge:
+            found[other] = number
         check_size("class", len(found), limit)
-        edge = fresh
     return found
 
 

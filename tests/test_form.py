@@ -161,6 +161,78 @@ def docstrings(tree):
     return found
 
 
+CHANGING = ("append", "clear", "extend", "insert", "pop", "remove", "reverse", "setdefault", "sort", "update", "add",
+            "discard")
+LIVE_VIEWS = ("enumerate", "zip", "reversed")
+
+
+def choices(node):
+    """The parts of which this expression is one: both sides of a choice, else itself."""
+    if isinstance(node, ast.IfExp):
+        return choices(node.body) + choices(node.orelse)
+    if isinstance(node, ast.BoolOp):
+        return [part for value in node.values for part in choices(value)]
+    return [node]
+
+
+def holders(node):
+    """The texts of the names, attributes and items that this expression may be, without making a copy."""
+    return [
+        ast.unparse(part) for part in choices(node) if isinstance(part, (ast.Name, ast.Attribute, ast.Subscript))
+    ]
+
+
+def walked(node):
+    """The texts of what a loop over this expression goes over."""
+    if isinstance(node, ast.Call) and isinstance(node.func, ast.Name) and node.func.id in LIVE_VIEWS:
+        return [text for part in node.args for text in walked(part)]
+    if isinstance(node, ast.Call) and isinstance(node.func, ast.Attribute):
+        return holders(node.func.value) if node.func.attr in ("items", "keys", "values") else []
+    return holders(node)
+
+
+def changed(node):
+    """The texts of what is changed anywhere in this part of a file."""
+    found = []
+    for part in ast.walk(node):
+        if isinstance(part, ast.Call) and isinstance(part.func, ast.Attribute) and part.func.attr in CHANGING:
+            found.extend(holders(part.func.value))
+        if isinstance(part, ast.Subscript) and isinstance(part.ctx, (ast.Store, ast.Del)):
+            found.extend(holders(part.value))
+        if isinstance(part, ast.AugAssign):
+            found.extend(holders(part.target))
+    return found
+
+
+def one_thing(function):
+    """For each text the texts that may mean the same list, as an assignment somewhere in the function gives it both."""
+    groups = {}
+    for node in ast.walk(function):
+        if isinstance(node, ast.Assign):
+            texts = holders(node.value) + [text for target in node.targets for text in holders(target)]
+            joined = {name for text in texts for name in groups.get(text, {text})}
+            groups.update({name: joined for name in joined})
+    return groups
+
+
+def loops_that_change_what_they_walk(tree):
+    """The lines of the loops and comprehensions that change what they go over, under this or another name (L23)."""
+    found = []
+    for function in [node for node in ast.walk(tree) if isinstance(node, ast.FunctionDef)]:
+        groups = one_thing(function)
+        for node in ast.walk(function):
+            if isinstance(node, ast.For):
+                heads, parts = [node.iter], node.body
+            elif isinstance(node, (ast.ListComp, ast.DictComp, ast.SetComp, ast.GeneratorExp)):
+                heads, parts = [part.iter for part in node.generators], [node]
+            else:
+                continue
+            names = {name for head in heads for text in walked(head) for name in groups.get(text, {text})}
+            if names & {text for part in parts for text in changed(part)}:
+                found.append(node.lineno)
+    return found
+
+
 class Files(unittest.TestCase):
     def test_nothing_but_python_files(self):
         for path in PACKAGE.rglob("*"):
@@ -319,11 +391,53 @@ class Code(unittest.TestCase):
             if isinstance(node.func, ast.Name) and node.func.id in ("any", "all", "sum", "sorted"):
                 self.assertNotIsInstance(node.args[0], (ast.GeneratorExp, ast.Set), (name, node.lineno))
 
+    def test_no_loop_changes_what_it_walks(self):
+        for path in files():
+            self.assertEqual(loops_that_change_what_they_walk(tree_of(path)), [], path)
+
     def test_the_generator_has_a_name_of_its_own(self):
         named = [node.name for _, node in walk_all(ast.FunctionDef)]
         for name, node in walk_all(ast.FunctionDef):
             if any(isinstance(part, (ast.Yield, ast.YieldFrom)) for part in ast.walk(node)):
                 self.assertEqual(named.count(node.name), 1, name)
+
+
+class WalkedAndChanged(unittest.TestCase):
+    """The check of L23 itself, on rows that break the rule and on rows that keep it."""
+
+    def finds(self, text, lines):
+        body = "".join("    " + row + "\n" for row in text.split("\n"))
+        found = loops_that_change_what_they_walk(ast.parse("def made():\n" + body))
+        self.assertEqual(found, [line + 1 for line in lines], text)
+
+    def test_by_its_own_name(self):
+        self.finds("for x in xs:\n    xs.append(x)", [1])
+        self.finds("for k, x in enumerate(xs):\n    xs[k] = x + 1", [1])
+        self.finds("for k, x in d.items():\n    if x:\n        del d[k]", [1])
+        self.finds("for x, y in zip(xs, ys):\n    ys.pop()\n    return 1", [1])
+        self.finds("out = [xs.pop() for x in xs]", [1])
+        self.finds("for x in box.rows:\n    box.rows.append(x)", [1])
+        self.finds("for x in rows[0]:\n    rows[0].append(x)", [1])
+        self.finds("for x in xs if xs else ys:\n    ys.append(x)", [1])
+        self.finds("for x in xs or ys:\n    ys += [x]", [1])
+
+    def test_by_another_name(self):
+        # The list that is made in the loop becomes the one that the loop goes over.
+        self.finds("while edge:\n    fresh = []\n    for one in edge:\n        fresh.append(one)\n    edge = fresh", [3])
+        self.finds("ys = xs\nfor x in xs:\n    ys.append(x)", [2])
+        self.finds("zs = ys\nys = xs\nfor x in zs:\n    xs[0] = x", [3])
+        self.finds("rows = box.rows\nfor x in rows:\n    box.rows.append(x)", [2])
+        self.finds("box.rows = rows\nfor x in box.rows:\n    rows.append(x)", [2])
+        self.finds("ys = xs if xs else zs\nfor x in ys:\n    zs.append(x)", [2])
+        self.finds("a = b = []\nc = a\nfor x in c:\n    b.append(x)", [3])
+
+    def test_what_keeps_the_rule(self):
+        self.finds("for x in list(xs):\n    xs.append(x)", [])
+        self.finds("ys = list(xs)\nfor x in xs:\n    ys.append(x)", [])
+        self.finds("while edge:\n    fresh = {}\n    for one in edge:\n        fresh[one] = 1\n    edge = list(fresh)", [])
+        self.finds("for x in xs:\n    ys.append(x)\nxs.append(1)", [])
+        self.finds("for x in xs:\n    total = total + x", [])
+        self.finds("for x in xs:\n    rows[x].append(x)", [])
 
 
 class TheInterface(unittest.TestCase):
