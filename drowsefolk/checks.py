@@ -134,6 +134,14 @@ def first_place(mask):
     return positions(mask)[0]
 
 
+def rows_with_sum(number, total):
+    """All rows of so many numbers from 0 on with this sum, in Python's order of tuples."""
+    rows = [()]
+    for _ in range(number):
+        rows = [row + (part,) for row in rows for part in range(total - sum(row) + 1)]
+    return [row for row in rows if sum(row) == total]
+
+
 def tell_all(web, masks):
     """Each of the sets as the program tells it."""
     return [tell(web, mask) for mask in masks]

@@ -43,7 +43,7 @@ def least_member(web, awake):
     return tell(web, _member_masks(web, awake)[0])
 
 
-def _droppable(web, world):
+def droppable_places(web, world):
     """The places of those who can be left out one at a time without leaving the class, in folk order."""
     whole = closed_in_all(web, world)
     return [place for place in positions(world) if closed_in_all(web, without(world, 1 << place)) == whole]
@@ -51,7 +51,7 @@ def _droppable(web, world):
 
 def thin_members(web, awake):
     """The thin members of the class in world order."""
-    return tell_all(web, [mask for mask in _member_masks(web, awake) if len(_droppable(web, mask)) == 0])
+    return tell_all(web, [mask for mask in _member_masks(web, awake) if len(droppable_places(web, mask)) == 0])
 
 
 def _sizes(web):
@@ -101,7 +101,7 @@ def class_meet(web, awake, target):
 
 def is_thin(web, awake):
     """True if nobody can be left out of the world without leaving its class."""
-    return len(_droppable(web, mask_of(web, awake))) == 0
+    return len(droppable_places(web, mask_of(web, awake))) == 0
 
 
 def thinned(web, awake):
@@ -119,9 +119,9 @@ def thinned(web, awake):
 def thin_paper(web, awake):
     """A nest for each awake one that nobody else who is awake is in; refuses a world that is not thin."""
     world = mask_of(web, awake)
-    droppable = _droppable(web, world)
-    if len(droppable) > 0:
-        raise NotThin(web.names[droppable[0]])
+    places = droppable_places(web, world)
+    if len(places) > 0:
+        raise NotThin(web.names[places[0]])
     return [
         (web.names[place], tell(web, greatest_nest_mask(web, without(world, 1 << place))))
         for place in positions(world)

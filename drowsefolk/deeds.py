@@ -38,10 +38,8 @@ def world_row(web, world, places):
     return row
 
 
-def world_behind(web, world, names):
-    """The mask behind the deeds of a paper, or None if they are too many or one is unknown or not allowed."""
-    if len(names) > MOST_DEEDS:
-        return None
+def world_after(web, world, names):
+    """The mask behind the deeds of a paper, however many, or None if one is unknown or not allowed."""
     for name in names:
         if name not in web:
             return None
@@ -50,6 +48,13 @@ def world_behind(web, world, names):
             return None
         world = world ^ (1 << place)
     return world
+
+
+def world_behind(web, world, names):
+    """The mask behind the deeds of a history in a paper, or None if they are too many or cannot be done."""
+    if len(names) > MOST_DEEDS:
+        return None
+    return world_after(web, world, names)
 
 
 def weight_on(web, awake, name):

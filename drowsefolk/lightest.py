@@ -1,7 +1,8 @@
 """Webs that let the same deeds [48] [49] or have the same classes [50], and the lightest web [51]."""
 
 from drowsefolk.checks import (
-    check_same_names, check_size, everybody, mask_of, place_in, positions, size_of, subsets, tell, tell_all, without,
+    check_same_names, check_size, everybody, mask_of, place_in, positions, rows_with_sum, size_of, subsets, tell,
+    tell_all, without,
 )
 from drowsefolk.closing import closed_in_all
 from drowsefolk.deeds import missing_at
@@ -84,14 +85,6 @@ def is_finer(one, other):
     return all([is_nest_mask(one, nest) for nest in nest_masks(other)])
 
 
-def _weight_rows(number, total):
-    """All rows of so many weights with this sum."""
-    rows = [()]
-    for _ in range(number):
-        rows = [row + (weight,) for row in rows for weight in range(total - sum(row) + 1)]
-    return [row for row in rows if sum(row) == total]
-
-
 def _group_sums(weights):
     """The weight of each group of watchers, the groups in the order of their masks."""
     return [sum([weights[at] for at in positions(group)]) for group in range(1 << len(weights))]
@@ -111,7 +104,7 @@ def _lightest_choice(rights, number):
     choices = []
     total = 0
     while len(choices) == 0:
-        rows = [(_least_need(rights, weights), weights) for weights in _weight_rows(number, total)]
+        rows = [(_least_need(rights, weights), weights) for weights in rows_with_sum(number, total)]
         choices = [row for row in rows if row[0] is not None]
         total = total + 1
     return min(choices)

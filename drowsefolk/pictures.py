@@ -12,13 +12,24 @@ from drowsefolk.nests import greatest_nest_mask, nest_in_paper
 from drowsefolk.reach import deeds_between
 
 
-def _examined(web, awake, told_awake, told_asleep):
-    """The masks of the world and of both parts of the picture; refuses somebody who is in both parts."""
-    world = mask_of(web, awake)
+def examined_picture(web, told_awake, told_asleep):
+    """The masks of both parts of the picture; refuses somebody who is in both parts."""
     up = mask_of(web, told_awake)
     down = mask_of(web, told_asleep)
     if up & down > 0:
         raise Contrary(web.names[first_place(up & down)])
+    return (up, down)
+
+
+def is_pictured(world, up, down):
+    """True if the world of this mask fits the picture."""
+    return without(up, world) == 0 and world & down == 0
+
+
+def _examined(web, awake, told_awake, told_asleep):
+    """The masks of the world and of both parts of the picture, each one examined."""
+    world = mask_of(web, awake)
+    up, down = examined_picture(web, told_awake, told_asleep)
     return (world, up, down)
 
 
@@ -96,7 +107,7 @@ def fit_paper(web, awake, told_awake, told_asleep):
 def _leads_to_fit(web, world, up, down, names):
     """True if the names are the deeds of a history to a world that fits the picture."""
     end = world_behind(web, world, names)
-    return end is not None and without(up, end) == 0 and end & down == 0
+    return end is not None and is_pictured(end, up, down)
 
 
 def _are_nests_against(web, world, up, down, avoided_names, met_names):

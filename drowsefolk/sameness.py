@@ -3,7 +3,7 @@
 from drowsefolk.checks import check_size, everybody, first_unlike, paper_mask, place_in
 from drowsefolk.names import RENAME_LIMIT
 from drowsefolk.renaming import Renaming
-from drowsefolk.webs import Web
+from drowsefolk.webs import Web, pairs_in_order
 
 _LETTERS = "abcde"
 
@@ -11,11 +11,6 @@ _LETTERS = "abcde"
 def _weight_between(web, watcher_place, watched_place):
     """The weight of the watch between the folk at these places; 0 if there is none."""
     return web.weight(web.names[watcher_place], web.names[watched_place])
-
-
-def _pairs_in_order(number):
-    """All pairs (place of the watched, place of the watcher) of so many folk, in pair order."""
-    return [(watched, watcher) for watched in range(number) for watcher in range(number) if watched != watcher]
 
 
 def _arrangements(number):
@@ -31,7 +26,7 @@ def _are_places_right(one, other, places):
     for place, other_place in enumerate(places):
         if one.need_at(place) != other.need_at(other_place):
             return False
-    for watched, watcher in _pairs_in_order(len(places)):
+    for watched, watcher in pairs_in_order(len(places)):
         weight = _weight_between(other, places[watcher], places[watched])
         if _weight_between(one, watcher, watched) != weight:
             return False
@@ -67,7 +62,7 @@ def is_renaming(one, other, paper):
 def _arrangement_key(web, row):
     """The key of an arrangement: the needs, and the weights of all ordered pairs."""
     needs = tuple([web.need_at(place) for place in row])
-    weights = [_weight_between(web, row[watcher], row[watched]) for watched, watcher in _pairs_in_order(len(row))]
+    weights = [_weight_between(web, row[watcher], row[watched]) for watched, watcher in pairs_in_order(len(row))]
     return (needs, tuple(weights))
 
 
@@ -109,7 +104,7 @@ def first_difference(one, other):
     for at, name in enumerate(one.names):
         if one.need_at(at) != other.need_at(at):
             return ("need", name, one.need_at(at), other.need_at(at))
-    for watched, watcher in _pairs_in_order(len(one.names)):
+    for watched, watcher in pairs_in_order(len(one.names)):
         weights = (_weight_between(one, watcher, watched), _weight_between(other, watcher, watched))
         if weights[0] != weights[1]:
             return ("watch", one.names[watcher], one.names[watched], weights[0], weights[1])

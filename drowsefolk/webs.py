@@ -4,27 +4,27 @@ from drowsefolk.checks import (
     check_count, check_new_name, check_number, check_size, everybody, mask_of, place_in, subsets, tell, tell_all,
     without, world_order_key,
 )
-from drowsefolk.errors import Repeated, SelfWatch
+from drowsefolk.errors import BorderWatch, Repeated, SelfWatch
 from drowsefolk.names import MOST_FOLK, MOST_NUMBER, MOST_WATCHES, SUBSET_LIMIT
 
 
-def _examined_folk(folk):
-    """The pairs (name, need) as a tuple of tuples, each one examined."""
-    check_count("folk", len(folk), 1, MOST_FOLK)
+def examined_folk(taken, folk):
+    """The pairs (name, need) as a tuple of tuples, each one examined; none of the taken names may come again."""
     needs = {}
     for name, need in folk:
         check_new_name(name)
         check_number(need, 0, MOST_NUMBER)
-        if name in needs:
+        if name in taken or name in needs:
             raise Repeated(name)
         # str and int turn a value of a kind made from Python's own into one of Python's own kind.
         needs[str(name)] = int(need)
     return tuple([(name, need) for name, need in needs.items()])
 
 
-def _examined_watches(names, watches):
-    """The triples as a tuple of tuples in pair order, each one examined."""
+def examined_watches(border, outer, watches):
+    """The triples as a tuple of tuples in pair order, each one examined; none may be between two of the border."""
     check_count("watches", len(watches), 0, MOST_WATCHES)
+    names = border + outer
     weights = {}
     for watcher, watched, weight in watches:
         watcher_place = place_in(names, watcher)
@@ -32,25 +32,35 @@ def _examined_watches(names, watches):
         check_number(weight, 1, MOST_NUMBER)
         if watcher_place == watched_place:
             raise SelfWatch(watcher)
+        if watcher in border and watched in border:
+            raise BorderWatch(watcher, watched)
         if (watched_place, watcher_place) in weights:
             raise Repeated((watcher, watched))
         weights[(watched_place, watcher_place)] = int(weight)
     return tuple([(names[pair[1]], names[pair[0]], weights[pair]) for pair in sorted(list(weights))])
 
 
-def _pulls_on(names, watches, name):
-    """The watches on one of the folk, each as (bit of the watcher, weight)."""
-    return tuple([(1 << names.index(row[0]), row[2]) for row in watches if row[1] == name])
+def pairs_in_order(number):
+    """All pairs (place of the watched, place of the watcher) of so many folk, in pair order."""
+    return [(watched, watcher) for watched in range(number) for watcher in range(number) if watched != watcher]
+
+
+def all_pulls(names, watches):
+    """For each of the names the watches on them, each as (bit of the watcher, weight)."""
+    return tuple([
+        tuple([(1 << names.index(row[0]), row[2]) for row in watches if row[1] == name]) for name in names
+    ])
 
 
 class Web:
     """A small group of named folk and the watches among them; it never changes."""
 
     def __init__(self, folk, watches=()):
-        self._folk = _examined_folk(folk)
+        check_count("folk", len(folk), 1, MOST_FOLK)
+        self._folk = examined_folk((), folk)
         self._names = tuple([row[0] for row in self._folk])
-        self._watches = _examined_watches(self._names, watches)
-        self._pulls = tuple([_pulls_on(self._names, self._watches, name) for name in self._names])
+        self._watches = examined_watches((), self._names, watches)
+        self._pulls = all_pulls(self._names, self._watches)
 
     @property
     def names(self):
