@@ -1,9 +1,12 @@
-"""Points 4 to 7 for all functions from nests to pieces: names arguments, their order, copies, papers behind them."""
+"""Points 4 to 7 for all functions from nests on: names arguments, their order, copies, papers behind them."""
 
 import copy
 
-from drowsefolk import classes, fewest, lengths, nests, pictures, pieces, reach
+from drowsefolk import (
+    audit, book, classes, diaries, fewest, gluing, lengths, nests, pictures, pieces, reach, repairs, running, telling,
+)
 from drowsefolk.errors import DrowseError, Repeated, UnknownFolk
+from drowsefolk.orders import Order
 from tests.helpers import Case, example_web, kinds, plain_web
 
 EXAMPLE = example_web()
@@ -84,6 +87,30 @@ CALLS = [
     (classes.thin_paper, EXAMPLE, (["a", "b"],), (0,)),
     (classes.is_thin_paper, EXAMPLE, (["b"], [("b", ["a", "b"])]), (0,)),
     (pieces.Piece, EXAMPLE, (["b"],), (0,)),
+    (gluing.neighbours, EXAMPLE, (["b", "c"],), (0,)),
+    (gluing.split_web, EXAMPLE, (["d"], ["c"]), (0, 1)),
+    (gluing.split_web, EXAMPLE, (["a"], ["c", "a"]), (0, 1)),
+    (telling.shrunk_web, EXAMPLE, (["d"], ["c"]), (0, 1)),
+    (telling.shrunk_web, EXAMPLE, (["a"], []), (0, 1)),
+    (diaries.Diary, EXAMPLE, (["b"], [(1, None, ["a"], ["b", "d"])]), (0,)),
+    (diaries.Diary, NINE, (["b"], [(1, None, ["a"], ["b", "d"])]), (0,)),
+    (diaries.Diary, NINE, (["b"], [(1, 0, ["q"], ["b", "b"])] * 9), (0,)),
+    (repairs.least_lowerings, EXAMPLE, (["b"], ["b", "d"]), (0, 1)),
+    (repairs.least_lowerings, NINE, (["b"], ["b", "d"]), (0, 1)),
+    (repairs.is_lowering, EXAMPLE, (["b"], ["b", "d"], [("d", 1)]), (0, 1)),
+    (repairs.is_lowering, EXAMPLE, (["b"], ["b", "d"], [("x", True)]), (0, 1)),
+    (repairs.least_layings, EXAMPLE, (["b"], ["b", "d"]), (0, 1)),
+    (repairs.least_layings, NINE, (["b"], ["b", "d"]), (0, 1)),
+    (repairs.least_cuts, EXAMPLE, (["b"], ["a", "c"]), (0, 1)),
+    (repairs.least_cuts, NINE, (["b"], ["b"]), (0, 1)),
+    (running.run_order, EXAMPLE, (["b", "c"], Order("each\ntry *\nend")), (0,)),
+    (running.run_order, EXAMPLE, (["b", "c"], Order("wake q")), (0,)),
+    (running.order_history, EXAMPLE, (["b", "c"], Order("each\ntry *\nend")), (0,)),
+    (running.order_history, EXAMPLE, (["b", "c"], Order("wake q")), (0,)),
+    (book.Book, EXAMPLE, (["b", "c"],), (0,)),
+    (audit.audit, EXAMPLE, (["b", "c"], [("turn", "a"), ("turn", "q")]), (0,)),
+    (audit.replay_book, EXAMPLE, (["b", "c"], [("turn", "a")]), (0,)),
+    (audit.replay_book, EXAMPLE, (["b", "c"], [("turn", "a"), ("turn", "q")]), (0,)),
 ]
 for function in (
     pictures.fits, pictures.greatest_fit, pictures.fit_paper, pictures.sure, pictures.list_fits, pictures.count_fits,

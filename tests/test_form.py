@@ -92,6 +92,43 @@ INTERFACE = {
         "Piece": "(web, border, *, awake=())", "settle": "(piece, told)", "table": "(piece)",
         "struck": "(piece, name)", "smaller": "(piece)",
     },
+    "gluing": {
+        "Surround": "(border, folk, watches)", "glue": "(piece, surround)",
+        "outer_closure": "(piece, surround, awake)", "neighbours": "(web, names)",
+        "split_web": "(web, names, border, *, awake=())", "closure_by_table": "(rows, surround, awake)",
+    },
+    "telling": {
+        "alike_in_all": "(one, other)", "wakes_no_more": "(one, other)", "telling": "(one, other)",
+        "shrunk_web": "(web, names, border)", "is_telling": "(one, other, surround, awake)",
+        "join_pieces": "(one, other)", "join_tables": "(one_rows, other_rows, needs)",
+    },
+    "diaries": {
+        "Diary": "(web, awake, sightings)", "layers": "(diary)", "first_misfit": "(diary)", "diary_fits": "(diary)",
+        "possible": "(diary)", "certain": "(diary)", "find_run": "(diary)", "shortest_run": "(diary)",
+        "least_deeds": "(diary)", "is_run": "(diary, paper)", "is_layer_paper": "(diary, place, paper)",
+        "fitting_starts": "(web, sightings)",
+    },
+    "repairs": {
+        "blanked": "(diary, places)", "thin_wrong": "(diary, *, most=2)", "least_wrong": "(diary, *, most=2)",
+        "is_thin_wrong": "(diary, paper)", "lowered": "(web, changes)", "laid": "(web, changes)",
+        "least_lowerings": "(web, awake, target, *, most=3)", "is_lowering": "(web, awake, target, paper)",
+        "least_layings": "(web, awake, target, *, most=2)", "without_watches": "(web, pairs)",
+        "least_cuts": "(web, awake, target, *, most=2)",
+    },
+    "orders": {"Order": "(text)"},
+    "running": {
+        "run_order": "(web, awake, order, *, ticks=90)", "order_history": "(web, awake, order, *, ticks=90)",
+        "order_of": "(history)", "parting_world": "(web, first, second, *, ticks=90)",
+        "effects": "(web, order, *, ticks=90)", "failing_worlds": "(web, order, *, ticks=90)",
+    },
+    "claims": {
+        "verdict": "(web, claim, paper)", "find_paper": "(web, claim)", "claim_names": "(claim)",
+    },
+    "book": {"Book": "(web, awake)"},
+    "audit": {
+        "audit": "(web, awake, rows)", "replay_book": "(web, awake, rows)", "compare_books": "(one, other)",
+        "journal": "(book)", "read_journal": "(text)", "same_future": "(one, other)", "closures": "(book)",
+    },
 }
 METHODS = {
     ("webs", "Web"): [
@@ -104,6 +141,26 @@ METHODS = {
         "__neg__", "__len__", "__eq__",
     ],
     ("pieces", "Piece"): ["web", "border", "inner", "awake", "__init__", "__eq__"],
+    ("gluing", "Surround"): ["border", "folk", "watches", "__init__", "__eq__"],
+    ("diaries", "Diary"): ["web", "first_world", "sightings", "__init__", "__len__", "__eq__"],
+    ("orders", "Order"): ["text", "names", "depth", "__init__", "__add__", "__len__", "__eq__"],
+    ("book", "Book"): [
+        "web", "world", "first_web", "first_world", "rows", "turn", "set_need", "set_watch", "come", "go", "claim",
+        "do", "run_all", "undo", "at", "claims", "standing", "can_come", "fewest_to", "twin", "__init__", "__len__",
+        "__eq__",
+    ],
+}
+# The parameters of the methods of the interface, without the object itself.
+METHOD_PARAMETERS = {
+    ("webs", "Web"): {"need": "(name)", "weight": "(watcher, watched)", "watchers": "(name)", "watched_by": "(name)"},
+    ("renaming", "Renaming"): {"same": "(names)", "__call__": "(name)"},
+    ("histories", "History"): {"worlds": "()", "at": "(place)", "turned": "(name)", "cut": "(low, high)"},
+    ("book", "Book"): {
+        "turn": "(name)", "set_need": "(name, need)", "set_watch": "(watcher, watched, weight)",
+        "come": "(name, need)", "go": "(name)", "claim": "(claim, paper)", "do": "(order, *, ticks=90)",
+        "run_all": "(rows)", "undo": "()", "at": "(place)", "claims": "()", "standing": "()", "can_come": "(target)",
+        "fewest_to": "(target)", "twin": "()",
+    },
 }
 
 BUILTINS = (
@@ -120,7 +177,7 @@ BARRED = ("register", "mro", "elements", "open", "input", "law", "version_info",
 BARRED_WORDS = ("type", "typing", "enum", "Enum", "Flag", "Generic", "Protocol", "ABC", "namedtuple", "NamedTuple")
 STATEMENTS = (
     ast.Assign, ast.AugAssign, ast.If, ast.While, ast.For, ast.Return, ast.Break, ast.Continue, ast.Pass, ast.Raise,
-    ast.Expr, ast.FunctionDef, ast.ClassDef, ast.ImportFrom,
+    ast.Expr, ast.FunctionDef, ast.ClassDef, ast.ImportFrom, ast.Try,
 )
 
 
@@ -423,7 +480,8 @@ class WalkedAndChanged(unittest.TestCase):
 
     def test_by_another_name(self):
         # The list that is made in the loop becomes the one that the loop goes over.
-        self.finds("while edge:\n    fresh = []\n    for one in edge:\n        fresh.append(one)\n    edge = fresh", [3])
+        rows = "while edge:\n    fresh = []\n    for one in edge:\n        fresh.append(one)\n    edge = "
+        self.finds(rows + "fresh", [3])
         self.finds("ys = xs\nfor x in xs:\n    ys.append(x)", [2])
         self.finds("zs = ys\nys = xs\nfor x in zs:\n    xs[0] = x", [3])
         self.finds("rows = box.rows\nfor x in rows:\n    box.rows.append(x)", [2])
@@ -434,7 +492,8 @@ class WalkedAndChanged(unittest.TestCase):
     def test_what_keeps_the_rule(self):
         self.finds("for x in list(xs):\n    xs.append(x)", [])
         self.finds("ys = list(xs)\nfor x in xs:\n    ys.append(x)", [])
-        self.finds("while edge:\n    fresh = {}\n    for one in edge:\n        fresh[one] = 1\n    edge = list(fresh)", [])
+        rows = "while edge:\n    fresh = {}\n    for one in edge:\n        fresh[one] = 1\n    edge = "
+        self.finds(rows + "list(fresh)", [])
         self.finds("for x in xs:\n    ys.append(x)\nxs.append(1)", [])
         self.finds("for x in xs:\n    total = total + x", [])
         self.finds("for x in xs:\n    rows[x].append(x)", [])
@@ -454,6 +513,20 @@ class TheInterface(unittest.TestCase):
             value = getattr(importlib.import_module("drowsefolk." + file_name), class_name)
             for name in methods:
                 self.assertIn(name, vars(value), (class_name, name))
+
+    def test_parameters_of_methods(self):
+        for (file_name, class_name), methods in METHOD_PARAMETERS.items():
+            value = getattr(importlib.import_module("drowsefolk." + file_name), class_name)
+            for name, parameters in methods.items():
+                told = inspect.signature(getattr(value, name)).parameters
+                kept = [part for part in told.values() if part.name != "self"]
+                self.assertEqual(str(inspect.Signature(kept)), parameters, (class_name, name))
+
+    def test_all_files_of_the_interface(self):
+        self.assertEqual(len(INTERFACE), 25)
+        self.assertEqual(
+            sorted([path.stem for path in files()]), sorted(list(INTERFACE) + ["__init__", "checks", "errors"])
+        )
 
     def test_objects_are_not_hashed(self):
         for file_name, class_name in METHODS:
