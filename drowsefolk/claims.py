@@ -23,14 +23,12 @@ def _check_word(claim):
 def _check_claim(web, claim):
     """Refuses a claim that is wrong for this web, by its first part at fault."""
     _check_word(claim)
-    if claim[0] == "fits":
-        mask_of(web, claim[1])
-        examined_picture(web, claim[2], claim[3])
-        return
     for names in claim[1:1 + _LISTS[claim[0]]]:
         mask_of(web, names)
     if claim[0] == "within":
         check_number(claim[3], 0, MOST_DEEDS - 1)
+    if claim[0] == "fits":
+        examined_picture(web, claim[2], claim[3])
 
 
 def _is_within_paper(web, claim, paper):

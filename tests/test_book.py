@@ -593,6 +593,7 @@ class Asking(BookCase):
         # Present web and world are equal, but not the first ones.
         self.assertIs(Book(EXAMPLE, ["a"]) == Book(with_need(EXAMPLE, "d", 2), ["a"]), False)
         self.assertIs(example_book() == Book(EXAMPLE, ["a"]), True)
+        self.assertIs(example_book() == Book(EXAMPLE, ["b"]), False)
 
     def test_lists_that_are_told_are_new(self):
         book = one_of_each()

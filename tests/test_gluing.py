@@ -430,6 +430,8 @@ class Split(Case):
         self.refuses(OnBorder("z"), split_web, web, ["a", "z", "m"], ["a", "z"])
         self.refuses(Crossing("k", "z"), split_web, web, ["m", "z"], ["a"])
         self.refuses(Crossing("z", "m"), split_web, web, ["m"], [])
+        # The first in folk order is outside here.
+        self.refuses(Crossing("z", "m"), split_web, web, ["z"], ["b", "a", "k"])
         self.refuses(Outside("a"), split_web, web, ["m"], ["a", "z"], awake=["k", "m", "a"])
         self.refuses(Outside("k"), split_web, web, ["m"], ["a", "z"], awake=["k"])
         self.refuses(BadCount("folk", 0), split_web, web, [], [])

@@ -90,6 +90,13 @@ class ThinWrong(Case):
         self.same(least_wrong(diary, most=3), [(1,)])
         self.same(least_wrong(diary), [(1,)])
 
+    def test_three_at_once(self):
+        diary = example_diary([(0, 0, ["d"], [])] * 3)
+        self.same(thin_wrong(diary), [])
+        self.same(thin_wrong(diary, most=3), [(1, 2, 3)])
+        self.refuses(NoRepair(2), least_wrong, diary)
+        self.same(least_wrong(diary, most=3), [(1, 2, 3)])
+
     def test_a_diary_that_fits(self):
         for most in range(4):
             self.same(thin_wrong(example_diary(), most=most), [()])
@@ -171,6 +178,7 @@ class IsThinWrong(Case):
             self.assertIs(is_thin_wrong(diary, [place]), False)
             self.assertIs(is_thin_wrong(diary, [1, place]), False)
         self.assertIs(is_thin_wrong(example_diary([]), [1]), False)
+        self.assertIs(is_thin_wrong(diary, [1, 1]), False)
         self.assertIs(is_thin_wrong(example_diary([]), []), True)
 
     def test_the_empty_set(self):

@@ -388,10 +388,14 @@ class JoinPieces(Case):
         left, right = ["b", "c", "d"], ["e", "f", "g"]
         self.same(len(join_pieces(piece(left, 12), piece(right, 9)).web.watches), 21)
         self.refuses(TooLarge("watches", 21), join_pieces, piece(left, 12), piece(right, 10))
+        # More watches together than a web may have, too.
+        left, right = ["b", "c", "d", "e"], ["f", "g", "h", "i"]
+        self.refuses(TooLarge("watches", 21), join_pieces, piece(left, 13), piece(right, 13))
+        self.refuses(TooLarge("watches", 21), join_pieces, piece(left, 20), piece(right, 20))
         more = Piece(Web([("a", 1)] + outer_folk(6), [("o0", "a", 1)] + [("a", f"o{at}", 1) for at in range(6)] + [
             (f"o{at}", "o0", 1) for at in range(1, 6)
         ]), ["a"])
-        self.refuses(TooLarge("folk", 9), join_pieces, piece(left, 12), more)
+        self.refuses(TooLarge("folk", 9), join_pieces, piece(left, 20), more)
 
     def test_refused_for_several_reasons(self):
         def piece(folk, watches, border):
